@@ -1,0 +1,1 @@
+"""Formsmith: forms for texts, written and read back."""
