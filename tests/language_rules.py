@@ -1,7 +1,7 @@
 """Finds code outside of LANGUAGE.md: those of its rules that can be seen from the syntax tree.
 
-Not seen here, and left to the reader: L11, L13, most of L15's and L18's, L19's what stands in
-a try, L22's keywords, L23, L24, L26, L28.
+Not seen here, or only in part, and left to the reader: L4, L5, L11, L13, L15 to L19, L21 to L24,
+L26, L28.
 """
 
 import ast
