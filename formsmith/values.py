@@ -51,16 +51,21 @@ def are_values_within(things, depth):
 
 
 def looked_up(value, fields):
+    # A copy, so that what is told stays as it is when the value is changed later.
+    return tuple([copied(thing) for thing in found(value, fields)])
+
+
+def found(value, fields):
+    # The very thing, for those who only look at it: copying a large one takes long.
     here = value
     for field in fields:
         if not isinstance(here, dict) or field not in here:
             return ()
         here = here[field]
-    return (copied(here),)
+    return (here,)
 
 
 def copied(value):
-    # A copy, so that what is told stays as it is when the value is changed later.
     if isinstance(value, list):
         return [copied(thing) for thing in value]
     if isinstance(value, dict):
