@@ -1,7 +1,7 @@
 """The pen, which all who write share: what it wrote, what it counted, and why it refuses.
 
-A reference is a tuple of a thing and of the fields that lead on from it. It
-is looked up only where the thing is wanted.
+A reference is a tuple of a thing and, behind it, the fields that lead on from
+it. It is looked up only where the thing is wanted.
 """
 
 from formsmith.values import found
@@ -37,7 +37,7 @@ class Pen:
 
     def thing_wanted(self, reference):
         self.count_one()
-        things = found(reference[0], reference[1])
+        things = found(reference[0], reference[1:])
         if not things:
             raise Refused("field")
         return things[0]
@@ -69,12 +69,8 @@ class Pen:
         return ("refused", word, "".join(self.parts))
 
 
-def led_on(reference, fields):
-    return (reference[0], reference[1] + fields)
-
-
 def references_to(values):
     references = {}
     for name in values:
-        references[name] = (values[name], ())
+        references[name] = (values[name],)
     return references

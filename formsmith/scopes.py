@@ -1,4 +1,10 @@
-"""Names: what is bound where in a book, and how large it is with all put in."""
+"""Names: what is bound where in a book, how large it is with all put in, and what names stand for.
+
+A scope is a tuple of what each name stands for and of the body that was
+handed to the piece: None, or a tuple of its names, its nodes and the scope of
+its use. What a name stands for is a tuple behind which fields are put: a
+path, or a thing and fields.
+"""
 
 from formsmith.errors import BadName, TooMany
 
@@ -142,3 +148,30 @@ def size_of_use(node, sizes):
     body = size_of_nodes(node[4], sizes)
     body_depth = piece[3] + body[3] if body[2] else 0
     return (piece[0] + many * body[0], max(piece[1], piece[3] + body[1]), many * body[2], body_depth)
+
+
+def stood_for(path, scope):
+    return scope[0][path[0]] + path[1:]
+
+
+def scope_in_loop(name, meaning, scope):
+    meanings = dict(scope[0])
+    meanings[name] = meaning
+    return (meanings, scope[1])
+
+
+def scope_in_use(use, piece, scope):
+    body = None if use[4] is None else (use[3], use[4], scope)
+    return (with_handed_in({}, piece[2], use[2], scope), body)
+
+
+def scope_in_body(paths, scope):
+    body = scope[1]
+    user = body[2]
+    return (with_handed_in(dict(user[0]), body[0], paths, scope), user[1])
+
+
+def with_handed_in(meanings, names, paths, scope):
+    for name, path in zip(names, paths):
+        meanings[name] = stood_for(path, scope)
+    return meanings

@@ -284,3 +284,48 @@ class FormMaker:
         if way == "number":
             return self.random.choice((0, 1, -1, 42, -7))
         return self.random.choice(VALUE_TEXTS)
+
+
+def renamed(book):
+    """The book with all names called otherwise, but those of main's own names and of fields."""
+    called = {piece[1]: f"q{letters(number)}" for number, piece in enumerate(book)}
+    pieces = []
+    for piece in book:
+        is_main = piece == book[-1]
+        names = piece[2] if is_main else tuple(f"n{letters(k)}" for k in range(len(piece[2])))
+        nodes = renamed_nodes(piece[4], dict(zip(piece[2], names)), called, 0)
+        pieces.append(("piece", called[piece[1]], names, piece[3], nodes))
+    return tuple(pieces)
+
+
+def letters(number):
+    return chr(ord("a") + number // 26) + chr(ord("a") + number % 26)
+
+
+def renamed_nodes(nodes, names, called, depth):
+    return tuple(renamed_node(node, names, called, depth) for node in nodes)
+
+
+def renamed_node(node, names, called, depth):
+    def path(old):
+        return (names[old[0]],) + old[1:]
+
+    if node[0] == "text":
+        return node
+    if node[0] == "place":
+        return ("place", path(node[1]), node[2])
+    if node[0] == "loop":
+        name = f"l{letters(depth)}"
+        inner = renamed_nodes(node[3], dict(names, **{node[1]: name}), called, depth + 1)
+        return ("loop", name, path(node[2]), inner, node[4])
+    if node[0] == "choice":
+        sides = [renamed_nodes(side, names, called, depth) for side in node[2:]]
+        return ("choice", path(node[1]), sides[0], sides[1])
+    if node[0] == "body":
+        return ("body", tuple(map(path, node[1])))
+    paths = tuple(map(path, node[2]))
+    if node[3] is None:
+        return ("use", called[node[1]], paths, None, None)
+    new = tuple(f"b{letters(depth)}{letters(k)}" for k in range(len(node[3])))
+    inner = renamed_nodes(node[4], dict(names, **dict(zip(node[3], new))), called, depth + 1)
+    return ("use", called[node[1]], paths, new, inner)
