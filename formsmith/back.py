@@ -42,8 +42,8 @@ class BackReader:
         self.text = text
         self.at = 0
 
-    def stands_at(self, signs):
-        return self.at < len(self.text) and self.text[self.at] in signs
+    def stands_at(self, allowed):
+        return self.at < len(self.text) and self.text[self.at] in allowed
 
     def read_nodes(self, nodes):
         fill = []

@@ -1,6 +1,6 @@
 """Finds code outside of LANGUAGE.md: those of its rules that can be seen from the syntax tree.
 
-Not seen here, or only in part, and left to the reader: L4, L5, L11, L13, L15 to L19, L21 to L24,
+Not seen here, or only in part, and left to the reader: L4, L5, L11, L13, L15 to L19, L21 to L23,
 L26, L28.
 """
 
@@ -40,17 +40,74 @@ EXPRESSIONS = (
     ast.FormattedValue, ast.Name, ast.Lambda,
 )
 ISINSTANCE_OWN = set("int str bool list tuple dict".split())
+KEYWORDS = {
+    "sorted": ("key", "reverse"), "min": ("key", "default"), "max": ("key", "default"), "sum": ("start",),
+    "enumerate": ("start",), "zip": ("strict",),
+}
+WALKED = set("zip enumerate reversed range items keys values".split())
+WALKERS = set("list tuple dict sorted sum any all enumerate zip min max join".split())
+PYTHONS_OWN = {name for kind in (str, int, list, tuple, dict, set, bytes) for name in dir(kind)}
+FREE_METHODS = OWN_METHODS | {"add", "discard"}
+FREE_VALUES = set("count index title find get join lower upper split strip copy add".split())
 
 
 def problems(sources):
     """All problems of a dict of file names and their texts, as tuples (file, line, rule)."""
     found = []
     methods = {name for text in sources.values() for name in method_names(ast.parse(text))}
+    values = {name for text in sources.values() for name in value_names(ast.parse(text))}
     for name, text in sources.items():
         tree = ast.parse(text)
-        for line, rule in file_problems(name, text) + top_problems(tree, sources) + tree_problems(tree, methods):
+        rows = file_problems(name, text) + top_problems(tree, sources) + tree_problems(tree, methods)
+        for line, rule in rows + around_problems(tree) + class_problems(tree, methods, values):
             found.append((name, line, rule))
     return sorted(found) + cycle_problems(sources)
+
+
+def value_names(tree):
+    return [node.attr for node in ast.walk(tree) if isinstance(node, ast.Attribute) and isinstance(node.ctx, ast.Store)]
+
+
+def class_problems(tree, methods, values):
+    """Methods and values of objects that are called as they may not be."""
+    own, stored = set(method_names(tree)) - DUNDERS, set(value_names(tree))
+    found = [(1, "L18") for name in (own | stored) & methods & values]
+    found += [(1, "L26") for name in own if name in PYTHONS_OWN - FREE_METHODS]
+    return found + [(1, "L26") for name in stored if name in PYTHONS_OWN - FREE_VALUES]
+
+
+def around_problems(tree):
+    """What hangs on where something stands."""
+    found = []
+    for parent in ast.walk(tree):
+        for node in ast.iter_child_nodes(parent):
+            line = getattr(node, "lineno", 1)
+            if isinstance(node, ast.Call):
+                found += [(line, rule) for rule in walk_rules(node, parent) + keyword_rules(node)]
+            if isinstance(node, ast.Expr) and not isinstance(node.value, ast.Call) and parent is not tree:
+                found.append((line, "L6"))
+    return found
+
+
+def called_name(node):
+    return getattr(node.func, "id", getattr(node.func, "attr", None)) if isinstance(node, ast.Call) else None
+
+
+def walk_rules(node, parent):
+    name = called_name(node)
+    if name in WALKED and (isinstance(node.func, ast.Name)) == (name in OWN_NAMES):
+        is_walked = isinstance(parent, (ast.For, ast.comprehension)) or called_name(parent) in WALKERS
+        return [] if is_walked else ["L23"]
+    if name == "set":
+        is_asked = isinstance(parent, (ast.Compare, ast.BinOp)) or called_name(parent) in ("sorted", "len")
+        return [] if is_asked else ["L24"]
+    return []
+
+
+def keyword_rules(node):
+    name = called_name(node)
+    is_pythons = name in OWN_NAMES or isinstance(node.func, ast.Attribute) and name in OWN_METHODS
+    return ["L22" for word in node.keywords if is_pythons and word.arg not in KEYWORDS.get(name, ())]
 
 
 def method_names(tree):

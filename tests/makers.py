@@ -2,6 +2,9 @@
 
 import random
 
+from formsmith.errors import TooMany
+from formsmith.scopes import need_book
+
 WAYS = ("word", "number", "quoted", "plain", "line")
 TEXTS = ("a", "b ", ", ", "{", "}", "<", ">", "\n", "~", "^", '"', "-", "7", "|x|", "{x}", "...", "&", "{(}")
 NAMES = ("x", "y", "z", "name", "abcdefgh")
@@ -210,9 +213,6 @@ class GoodMaker:
 
 def good_books(many, faults=0.02):
     """So many good books with values for them, as tuples (number, book, values)."""
-    from formsmith.errors import TooMany
-    from formsmith.scopes import need_book
-
     made = []
     seed = 0
     while len(made) < many:

@@ -37,6 +37,7 @@ GOOD = (
     (LIST, "[]", [[]]), (LIST, "[1]", [[[1]]]), (LIST, "[1, -2, 0]", [[[1], [-2], [0]]]),
     (ROWS, ".", [[]]), (ROWS, "a=1\n.", [[["a", "1"]]]), (ROWS, "a=\nb=<\n.".replace("<", "~l"), [[["a", ""], ["b", "<"]]]),
     ("{for a in x}b{end}", "", [[]]), ("{for a in x}b{end}", "bbb", [[[], [], []]]),
+    ("{for a in x}b{between},;{end};", "b,;b;", [[[], []]]), ("{for a in x}b{between},;{end};", "b;", [[[]]]),
     ("{for a in x}b{between}b{end}", "bbbbb", [[[], [], []]]), ("{for a in x}b{between}b{end}", "b", [[[]]]),
     ("{for a in x}({for b in a}{b as word}{between},{end}){end}", "()(a,b)(c)", [[[[]], [[["a"], ["b"]]], [[["c"]]]]]),
     ("{for a in x}({for b in a}c{end}{between};{end}!", "(;(cc!", [[[[]], [[[], []]]]]),

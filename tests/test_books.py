@@ -2,6 +2,7 @@ import unittest
 
 from formsmith.books import read
 from formsmith.errors import BadText
+from formsmith.signs import signs
 
 HUGE = 10 ** 3999
 NAMES = ("a", "b", "c", "d", "e", "f", "g")
@@ -242,7 +243,7 @@ class BadTextTests(unittest.TestCase):
 
     def test_other_signs_outside_of_pieces(self):
         good = piece("x")
-        for sign in "x.,-~\"'0_()}":
+        for sign in signs().replace("{", "").replace(" ", "").replace("\n", ""):
             for text, at in ((sign, 0), (" " + sign + good, 1), (good + sign, len(good)),
                              (good + "\n " + sign + good, len(good) + 2), (good + good + " " + sign, 2 * len(good) + 1)):
                 self.assertEqual(at_of(text), at, text)

@@ -49,6 +49,7 @@ ROWS = (
     ("{for a in x}b{between},{end}{for a in x};{end}", None), ("{for a in x}b{between},{end}{for a in x};{end},", (0,)),
     # a place within a loop is followed by BETWEEN, by the nodes themselves, and by what follows the loop
     ("{for a in x}{a as word}{end}", (0, 0)), ("{for a in x}{a as word};{end}", None), ("{for a in x};{a as word}{end}", None),
+    ("{for a in x}{a as word}{between},b{end}", None), ("{for a in x}<{a}{between}|b{end}", None),
     ("{for a in x}{a as word}{between},{end}", None), ("{for a in x}{a as word}{between}b{end}", (0, 0)),
     ("{for a in x}{a as word}{between},{end}.", None), ("{for a in x}{a as number}{between},{end}b", None),
     ("{for a in x}<{a}{between},{end}", (0, 1)), ("{for a in x}<{a}{between}|{end}", None), ("{for a in x}<{a}{end}", None),

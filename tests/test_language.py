@@ -26,7 +26,13 @@ BAD = (
     ("L17", "# type\n"), ("L17", "def f(a):\n    a.mro = 1\n"), ("L19", "def f(a):\n    try:\n        a()\n    except:\n        pass\n"),
     ("L20", "def f(a, b):\n    return a is b\n"), ("L22", "def f(a):\n    return isinstance(a, set)\n"),
     ("L25", "def f(a):\n    return a.title()\n"), ("L27", "x = '" + chr(37) + "'\n"), ("L27", "x = '\\x41'\n"),
-    ("L27", "def f(a):\n    return 2 ** a\n"),
+    ("L27", "def f(a):\n    return 2 ** a\n"), ("L6", "def f(a):\n    'told'\n    return a\n"),
+    ("L18", "class A:\n    def a(self):\n        pass\n\n\nclass B:\n    def __init__(self):\n        self.a = 1\n"),
+    ("L22", "def f(a):\n    return a.split(sep='x')\n"), ("L22", "def f(a):\n    return sorted(a, start=1)\n"),
+    ("L23", "def f(a):\n    b = zip(a, a)\n    return b\n"), ("L23", "def f(a):\n    return a.keys()\n"),
+    ("L24", "def f(a):\n    b = set(a)\n    return b\n"), ("L24", "def f(a):\n    for b in set(a):\n        return b\n"),
+    ("L26", "class A:\n    def title(self):\n        pass\n"),
+    ("L26", "class A:\n    def __init__(self):\n        self.real = 1\n"),
 )
 
 

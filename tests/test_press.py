@@ -1,6 +1,9 @@
+import contextlib
 import copy
 import unittest
+from unittest import mock
 
+from formsmith import press as press_module
 from formsmith.books import read
 from formsmith.clear import unclear
 from formsmith.errors import BadName, BadText, BadValues, BadWay, Clash, FormError, NoFill, TooMany, Unclear
@@ -53,6 +56,24 @@ class PressTests(unittest.TestCase):
             self.assertEqual(press("{piece m()}{end}", {}, way), ("written", ""), way)
         self.assertEqual(press(GOOD, GOOD_VALUES), ("written", "1|;2|"))
         self.assertEqual(press(GOOD, GOOD_VALUES, way="rows"), ("written", "1|;2|"))
+
+    def test_each_way_goes_by_its_own_part(self):
+        parts = {"tree": ("written",), "form": ("joined", "flat_written"), "rows": ("compiled", "run"), "short": ("compiled", "shortened", "run")}
+        names = sorted({name for row in parts.values() for name in row})
+        for way in WAYS:
+            called = []
+
+            def watched(name):
+                real = getattr(press_module, name)
+                return lambda *things: called.append(name) or real(*things)
+
+            with contextlib.ExitStack() as stack:
+                for name in names:
+                    stack.enter_context(mock.patch.object(press_module, name, watched(name)))
+                self.assertEqual(press(GOOD, GOOD_VALUES, way), ("written", "1|;2|"))
+            self.assertEqual(tuple(called), parts[way])
+        with mock.patch.object(press_module, "written", lambda book, values: "by trees"):
+            self.assertEqual(press(GOOD, GOOD_VALUES), "by trees")
 
     def test_values_by_their_names(self):
         text = "{piece m(b, a, c)}{a}{b}{c}{end}"

@@ -36,6 +36,13 @@ def walked_size(book):
     return (len(found), max(found, default=0))
 
 
+def need_book_or_too_many(book):
+    try:
+        need_book(book)
+    except TooMany:
+        pass
+
+
 # A piece without names or body, one with two names, and one with a body of two names.
 ELDERS = "{piece p()}p{end}{piece q(a, b)}{a}{b}{end}{piece r(a) body 2}{body(a, a)}{end}{piece s() body 0}{body()}{end}"
 
@@ -228,6 +235,18 @@ class SizeTests(unittest.TestCase):
         )
         # The use of b, that of a, two bodies, and in each a place and a body with one text.
         self.check(text, (1 + 1 + 2 * (1 + 1 + 1 + 1), 5))
+
+    def test_bodies_handed_on_several_times(self):
+        one = "{piece a(x) body 1}{if x}{body(x)}{end}{body(x)}t{end}"
+        two = "{piece b(x) body 0}{use a(x) with y}{body()}{for z in y}{if z}{body()}{end}{end}{y}{body()}{end}{end}"
+        three = "{piece c(x) body 2}{use b(x) with }{body(x, x)}{use a(x) with y}{if y}{body(y, x)}{end}{end}{end}{end}"
+        main = "{piece m(x)}{use c(x) with y, z}{y}{for w in z}{w}{end}{end}{end}"
+        for text in (one + main.replace("c(x) with y, z", "a(x) with z").replace("{y}", ""), one + two + three + main):
+            book = read(text)
+            need_book_or_too_many(book)
+            self.assertEqual(sized(book), walked_size(book))
+        twice = "{piece a() body 0}{body()}{end}{piece b(x) body 0}{use a() with }{if x}{if x}{body()}{end}{end}{body()}{body()}{end}{end}"
+        self.check(twice + "{piece m(x)}{use b(x) with }{x}{if x}t{end}{end}{end}", (1 + 1 + 1 + 2 + 3 * (1 + 3), 8))
 
     def test_books_of_every_sort(self):
         for seed, book, values in good_books(300):
